@@ -241,6 +241,13 @@ func TestRoundEvicts(t *testing.T) {
 		"kill n 1 1 1; kill n 1 2 1; launch n 1 9 1 0; launch n 1 1 2 0,1")
 }
 
+// P21.2: of like priorities the one that started last goes first, be its number the least.
+func TestRoundEvictsLatest(t *testing.T) {
+	l := append(room(4, "a"), ready(of("a", 1, 1, 2), of("a", 1, 2, 2))...)
+	l = append(l, placed(2, "n"), api.Ticked{}, placed(1, "n"))
+	rounds(t, played(t, append(l, ready(of("a", 5, 3, 2))...)...), "evicted 1; placed 3 n", "kill n 1 1 1; launch n 1 3 1 0")
+}
+
 // P21.2: nobody goes whose priority isn't below.
 func TestRoundEvictsNone(t *testing.T) {
 	l := append(room(4, "a", "b"), ready(of("a", 3, 1, 2), of("b", 4, 2, 2))...)
@@ -273,6 +280,16 @@ func TestRoundComesAgainAndEvicts(t *testing.T) {
 	l = append(l, ready(of("a", 9, 4, 2), of("b", 8, 5, 2), of("a", 7, 6, 2), of("a", 6, 7, 2))...)
 	rounds(t, played(t, l...), "evicted 1; placed 5 n; evicted 2; placed 4 n; evicted 3; placed 6 n",
 		"kill n 1 1 1; launch n 1 5 1 0; kill n 1 2 1; launch n 1 4 1 0; kill n 1 3 1; launch n 1 6 1 0")
+}
+
+// P21.2: who came again and was placed has no third turn behind the next eviction, though there were quota for it, and one who might go.
+func TestRoundComesAgainOnce(t *testing.T) {
+	l := append(room(6, "b"), joined("a", 4))
+	l = append(l, ready(of("a", 1, 1, 4), of("b", 2, 2, 1), of("b", 3, 3, 1))...)
+	l = append(l, placed(1, "n"), placed(2, "n"), placed(3, "n"))
+	l = append(l, ready(of("a", 9, 4, 1), of("b", 8, 5, 4))...)
+	rounds(t, played(t, l...), "evicted 1; placed 5 n; evicted 2; placed 4 n",
+		"kill n 1 1 1; launch n 1 5 1 0; kill n 1 2 1; launch n 1 4 1 0")
 }
 
 // P21.2: one who isn't within the quota is passed over even where nobody waits at the head, and evicts nobody, its own tenant's neither.
